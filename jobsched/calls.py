@@ -1,17 +1,14 @@
 """The calls on one machine: what each refuses, does and answers."""
 
+from jobsched.comparison import outcomes
 from jobsched.jobs import KILLED, Job, is_over, pass_in_lowest_terms
-from jobsched.machine import Machine, sleepers_in_order, tick
-from jobsched.policies import ready_in_order
+from jobsched.machine import NOBODY, Machine, all_over, run_until_over, sleepers_in_order, tick
+from jobsched.policies import ready_in_order, wait_bound
+from jobsched.refusals import (COMES_TOO_EARLY, NOT_AS_TOLD, NOT_BEGUN, OVER_ALREADY, TOO_LATE, TOO_MANY_JOBS,
+                               are_within, is_within)
+from jobsched.rowcalls import FIRST_PLACE, answer_on_row
 
 BEGIN = 0
-
-NOT_BEGUN = -1
-NOT_AS_TOLD = -2
-TOO_MANY_JOBS = -3
-COMES_TOO_EARLY = -4
-TOO_LATE = -5
-OVER_ALREADY = -6
 
 MOST_JOBS = 16
 LAST_TIME = 3000
@@ -25,23 +22,13 @@ SHARES_RANGE = (1, 100)
 TRACE_LENGTH_RANGE = (0, 200)
 PARTS_COUNT_RANGE = (1, 12)
 PART_RANGE = (-100, 50)
+COMPARE_RANGES = ((1, 400),)
 
 
 # A line's one machine: none until it is begun.
 class Line:
     def __init__(self):
         self.machine = None
-
-
-def is_within(number, bounds):
-    return bounds[0] <= number <= bounds[1]
-
-
-def are_within(numbers, ranges):
-    for number, bounds in zip(numbers, ranges, strict=True):
-        if not is_within(number, bounds):
-            return False
-    return True
 
 
 def are_parts(row):
@@ -100,19 +87,12 @@ def ticks(machine, numbers, row):
     return stretches(machine.runners[before:])
 
 
-def all_over(machine):
-    return all([is_over(job) for job in machine.jobs])
-
-
 def until_over(machine, numbers, row):
     if not are_within(numbers, UNTIL_OVER_RANGES):
         return [NOT_AS_TOLD]
     if machine.now + numbers[0] > LAST_TIME:
         return [TOO_LATE]
-    gone = 0
-    while gone < numbers[0] and not all_over(machine):
-        tick(machine)
-        gone += 1
+    gone = run_until_over(machine, numbers[0])
     return [1 if all_over(machine) else 0, gone]
 
 
@@ -170,13 +150,38 @@ def trace(machine, numbers, row):
     return stretches(machine.runners[numbers[0]:numbers[0] + numbers[1]])
 
 
+def totals(machine, numbers, row):
+    over = [job for job in machine.jobs if is_over(job)]
+    told = [machine.now, len(machine.jobs), len(over), machine.runners.count(NOBODY)]
+    told.append(stretches(machine.runners)[0])
+    told.extend(pass_in_lowest_terms(machine.floor_parts))
+    return told
+
+
+def compare(machine, numbers, row):
+    if not are_within(numbers, COMPARE_RANGES):
+        return [NOT_AS_TOLD]
+    return outcomes(machine, numbers[0])
+
+
+def bound(machine, numbers, row):
+    if not are_within(numbers, (job_numbers(machine),)):
+        return [NOT_AS_TOLD]
+    found = wait_bound(machine, machine.jobs[numbers[0]])
+    if found is None:
+        return [0]
+    return [1, found]
+
+
 # By the call's place; begin is apart, for it alone makes the machine.
-ON_MACHINE = (None, tell_job, ticks, until_over, kill, change, state, order, sleepers, trace)
+ON_MACHINE = (None, tell_job, ticks, until_over, kill, change, state, order, sleepers, trace, totals, compare, bound)
 
 
 def answer(line, place, numbers, row):
     if place == BEGIN:
         return begin(line, numbers)
+    if place >= FIRST_PLACE:
+        return answer_on_row(place, numbers, row)
     if line.machine is None:
         return [NOT_BEGUN]
     return ON_MACHINE[place](line.machine, numbers, row)

@@ -1,5 +1,7 @@
 """A job: what it was told, and how it stands."""
 
+from jobsched.divisors import greatest_divisor
+
 COMING = 0
 READY = 1
 ASLEEP = 2
@@ -38,14 +40,6 @@ class Job:
 
 def is_over(job):
     return job.stands == DONE or job.stands == KILLED
-
-
-def greatest_divisor(one, other):
-    while other > 0:
-        rest = one % other
-        one = other
-        other = rest
-    return one
 
 
 def pass_in_lowest_terms(pass_parts):

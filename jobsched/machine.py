@@ -1,6 +1,6 @@
 """The machine, and what one tick does."""
 
-from jobsched.jobs import ASLEEP, COMING, DONE, PASS_UNIT, READY
+from jobsched.jobs import ASLEEP, COMING, DONE, PASS_UNIT, READY, is_over
 from jobsched.policies import BY_LEVELS, BY_SHARES, BY_URGENCY, IN_TURN, first_ready, ready_jobs
 
 NOBODY = -1
@@ -38,6 +38,19 @@ def tick(machine):
         settle(machine, runner)
         machine.runners.append(runner.number)
     machine.now += 1
+
+
+def all_over(machine):
+    return all([is_over(job) for job in machine.jobs])
+
+
+# Answers how many ticks went by.
+def run_until_over(machine, most):
+    gone = 0
+    while gone < most and not all_over(machine):
+        tick(machine)
+        gone += 1
+    return gone
 
 
 def give_turn(machine, job):

@@ -8,6 +8,7 @@ BY_SHARES = 2
 BY_DEADLINES = 3
 LEAST_LEFT = 4
 BY_LEVELS = 5
+POLICY_COUNT = 6
 
 
 def aged_urgency(machine, job):
@@ -49,3 +50,13 @@ def first_ready(machine):
 
 def ready_in_order(machine):
     return sorted(ready_jobs(machine), key=lambda job: rank(machine, job))
+
+
+# How long a job may wait at most, or None where nothing is promised.
+def wait_bound(machine, job):
+    told = len(machine.jobs)
+    if machine.policy == IN_TURN:
+        return machine.slice_ticks * (told - 1)
+    if machine.policy == BY_URGENCY and machine.age > 0:
+        return machine.age * (11 - job.urgency) + told
+    return None

@@ -3,8 +3,8 @@
 from jobsched.calls import Line, answer
 
 # How many whole numbers stand behind each call's place, its row left out.
-NUMBERS_BEHIND = (4, 5, 1, 1, 1, 3, 1, 0, 0, 2)
-PLACES_WITH_ROW = (1,)
+NUMBERS_BEHIND = (4, 5, 1, 1, 1, 3, 1, 0, 0, 2, 0, 1, 1, 0, 0, 1, 0, 0, 1)
+PLACES_WITH_ROW = (1, 13, 14, 15, 16, 17, 18)
 
 
 # Goes through the list once by its place there, so the list stays as it is.

@@ -39,6 +39,43 @@ def trace(a, n):
     return [9, a, n]
 
 
+TOTALS = [10]
+
+
+def compare(n):
+    return [11, n]
+
+
+def bound(j):
+    return [12, j]
+
+
+# The rows of these are flat: threes or fours, one behind another.
+
+def once(row):
+    return [13, len(row)] + list(row)
+
+
+def tight(row):
+    return [14, len(row)] + list(row)
+
+
+def demand(row, t):
+    return [15, t, len(row)] + list(row)
+
+
+def again(row):
+    return [16, len(row)] + list(row)
+
+
+def response(row):
+    return [17, len(row)] + list(row)
+
+
+def ranked(row, n):
+    return [18, n, len(row)] + list(row)
+
+
 STATE_NAMES = ("stands", "part", "left", "behind", "wakes", "waited", "used", "level",
                "pass_top", "pass_bottom", "ran", "ended", "longest")
 

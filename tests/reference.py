@@ -1,9 +1,11 @@
 """A second, slower telling of the document, to hold the program against.
 
 It is written apart from the program: fractions instead of whole parts, pairs
-compared one with another instead of ranks, the sleepers in a list of their own.
+compared one with another instead of ranks, the sleepers in a list of their own,
+every coming of a kind by itself.
 """
 
+import itertools
 from fractions import Fraction
 
 
@@ -245,7 +247,143 @@ class Reference:
         return self.stretched(self.went[a:][:n])
 
 
-NAMES = ("begin", "job", "ticks", "until_over", "kill", "change", "state", "order", "sleepers", "trace")
+    def totals(self):
+        return [self.now, len(self.jobs), sum(j["stands"] > 2 for j in self.jobs), self.went.count(-1),
+                len(list(itertools.groupby(self.went))), self.floor.numerator, self.floor.denominator]
+
+    def compare(self, n):
+        refuse(-2, not 1 <= n <= 400)
+        told = []
+        for policy in range(6):
+            other = Reference()
+            other.begin(policy, self.slice, self.age, self.boost)
+            for j in self.jobs:
+                other.job(j["comes"], j["urgency"], j["shares"], j["deadline"], j["rounds"], list(j["parts"]))
+            other.until_over(n)
+            told += other.ended_well()
+        return told
+
+    def ended_well(self):
+        count = total = longest = 0
+        latest = None
+        for j in self.jobs:
+            longest = max(longest, j["longest"])
+            if j["stands"] == 3:
+                count += 1
+                total += j["ended"]
+                late = j["ended"] - j["comes"] - j["deadline"]
+                if j["deadline"] and (latest is None or late > latest):
+                    latest = late
+        return [count, total] + ([0] if latest is None else [1, latest]) + [longest]
+
+    def bound(self, k):
+        j = self.known(k)
+        if self.policy == 0:
+            return [1, self.slice * (len(self.jobs) - 1)]
+        if self.policy == 1 and self.age:
+            return [1, self.age * (11 - j["urgency"]) + len(self.jobs)]
+        return [0]
+
+    # -- section 3
+
+    def once_jobs(self, row):
+        refuse(-2, len(row) % 3 or len(row) > 36)
+        found = list(zip(row[0::3], row[1::3], row[2::3]))
+        refuse(-2, any(not (0 <= start <= 60 and 1 <= need <= 20 and 0 <= due <= 200) for start, need, due in found))
+        return found
+
+    def once(self, row):
+        jobs = self.once_jobs(row)
+        # One entry for each tick that is needed yet: the due time, the place in the row, from when.
+        needed = sorted((due, k, start) for k, (start, need, due) in enumerate(jobs) for _ in range(need))
+        done = {}
+        for now in itertools.count():
+            if not needed:
+                break
+            may = [entry for entry in needed if entry[2] <= now]
+            if may:
+                needed.remove(may[0])
+                done[may[0][1]] = now + 1
+        times = [done[k] for k in range(len(jobs))]
+        late = [time - due for time, (_, _, due) in zip(times, jobs)]
+        return [int(not any(by > 0 for by in late)), max(late or [0])] + times
+
+    def tight(self, row):
+        jobs = self.once_jobs(row)
+        found = []
+        for a, b in itertools.product({job[0] for job in jobs}, {job[2] for job in jobs}):
+            must = sum(need for start, need, due in jobs if a <= start and due <= b)
+            if must > (0 if b < a else b - a):
+                found.append((b, a, must))
+        if not found:
+            return [0]
+        b, a, must = min(found)
+        return [1, a, b, must]
+
+    # -- section 4
+
+    def kinds(self, row, size):
+        refuse(-2, len(row) % size or not 1 <= len(row) // size <= 6)
+        found = [row[at:at + size] for at in range(0, len(row), size)]
+        for kind in found:
+            refuse(-2, not (1 <= kind[0] <= 12 and 1 <= kind[1] <= 12 and 1 <= kind[2] <= kind[0]))
+            refuse(-2, size == 4 and not 0 <= kind[3] <= 30)
+        return found
+
+    def demand(self, t, row):
+        kinds = self.kinds(row, 3)
+        refuse(-2, not 0 <= t <= 10000)
+        return [sum(need for period, need, due in kinds for comes in range(0, t + 1, period) if comes + due <= t)]
+
+    def again(self, row):
+        kinds = self.kinds(row, 3)
+        whole = 1
+        while any(whole % period for period, _, _ in kinds):
+            whole += 1
+        comings = sorted((comes + due, need) for period, need, due in kinds for comes in range(0, whole, period))
+        asked = 0
+        for t in range(whole + 1):
+            while comings and comings[0][0] <= t:
+                asked += comings.pop(0)[1]
+            if asked > t:
+                return [0, whole, t, asked]
+        return [1, whole]
+
+    def response(self, row):
+        kinds = self.kinds(row, 3)
+        told = []
+        for i, (_, need, due) in enumerate(kinds):
+            r, s = None, need
+            while s != r and (r is None or s <= due):
+                r = s
+                s = need + sum(n * (r // p + (r % p > 0)) for p, n, _ in kinds[:i])
+            told += [0] if s > due else [1, s]
+        return told
+
+    def ranked(self, n, row):
+        kinds = self.kinds(row, 4)
+        refuse(-2, not 0 <= n <= 300)
+        waiting = [[] for _ in kinds]
+        took = [[] for _ in kinds]
+        for now in range(n):
+            for (period, need, _, beginning), line in zip(kinds, waiting):
+                if now >= beginning and (now - beginning) % period == 0:
+                    line.append([now, need])
+            busy = [k for k, line in enumerate(waiting) if line]
+            if busy:
+                coming = waiting[busy[0]][0]
+                coming[1] -= 1
+                if coming[1] == 0:
+                    waiting[busy[0]].pop(0)
+                    took[busy[0]].append(now + 1 - coming[0])
+        return [number for found in took for number in (len(found), max(found, default=0))]
+
+
+NAMES = ("begin", "job", "ticks", "until_over", "kill", "change", "state", "order", "sleepers", "trace", "totals",
+         "compare", "bound", "once", "tight", "demand", "again", "response", "ranked")
+WITHOUT_MACHINE = (0, 13, 14, 15, 16, 17, 18)
+# How many numbers stand between the place and the row's count, where there is a row.
+AHEAD_OF_ROW = {1: 5, 13: 0, 14: 0, 15: 1, 16: 0, 17: 0, 18: 1}
 
 
 def reference_answers(calls):
@@ -254,10 +392,11 @@ def reference_answers(calls):
     given = []
     for call in calls:
         arguments = list(call[1:])
-        if call[0] == 1:
-            arguments = call[1:6] + [call[7:]]
+        if call[0] in AHEAD_OF_ROW:
+            ahead = AHEAD_OF_ROW[call[0]]
+            arguments = arguments[:ahead] + [arguments[ahead + 1:]]
         try:
-            refuse(-1, machine.policy is None and call[0] != 0)
+            refuse(-1, machine.policy is None and call[0] not in WITHOUT_MACHINE)
             given.append(getattr(machine, NAMES[call[0]])(*arguments))
         except Refused as refused:
             given.append([refused.args[0]])

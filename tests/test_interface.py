@@ -8,11 +8,15 @@ import sys
 import unittest
 
 from jobsched.scheduler import answers
-from tests.helper import ORDER, SLEEPERS, apart, begin, change, job, kill, state, ticks, trace, until_over
+from tests.helper import (ORDER, SLEEPERS, TOTALS, again, apart, begin, bound, change, compare, demand, job, kill, once,
+                          ranked, response, state, ticks, tight, trace, until_over)
 
 LINE = [number for call in (
     begin(2, 3, 2, 5), job([3, -2, 1], shares=3), job([2], shares=2, comes=1, rounds=2), ticks(3), ORDER, SLEEPERS,
     state(0), change(1, 4, 5), ticks(0), kill(0), kill(0), until_over(9), trace(0, 200), begin(9, 1), state(1),
+    TOTALS, compare(50), bound(1), once([0, 3, 2, 4, 2, 5]), tight([0, 3, 2, 4, 2, 5]), demand([4, 2, 3, 6, 1, 6], 9),
+    again([2, 1, 2, 3, 2, 3]), response([4, 1, 4, 6, 2, 6]), ranked([4, 1, 4, 0, 6, 3, 6, 2], 30), once([1]),
+    demand([1, 1, 1], -1), ranked([], 4), compare(0), TOTALS,
 ) for number in call]
 
 
@@ -23,6 +27,27 @@ class OneList(unittest.TestCase):
             1, 0, 1, 0, 3, 1, 0, 2, 1, 0, 3, 1, 0, 3,
             13, 2, 1, 0, 0, 3, 0, 1, 0, 2, 1, 2, 0, 0,
             1, 0, 1, -6, 3, 1, 0, 2])
+
+    def test_counts_of_the_calls_on_rows(self):
+        line = once([0, 2, 1, 3, 1, 9]) + tight([0, 2, 1]) + tight([]) + demand([4, 2, 3], 7) + again([2, 1, 2])
+        line += again([2, 1, 1, 2, 1, 1]) + response([4, 1, 4, 2, 2, 1]) + ranked([4, 1, 4, 0, 6, 3, 6, 0], 12) + once([])
+        self.assertEqual(answers(line), [
+            4, 0, 1, 2, 4, 4, 1, 0, 1, 2, 1, 0, 1, 4, 2, 1, 2,
+            4, 0, 2, 1, 2, 3, 1, 1, 0, 4, 3, 1, 2, 4, 2, 1, 0])
+
+    def test_counts_of_totals_compare_and_bound(self):
+        line = begin(0, 3) + job([2], deadline=5) + job([1]) + ticks(1) + TOTALS + compare(1) + bound(1) + begin(2)
+        line += job([1]) + bound(0) + compare(1)
+        self.assertEqual(answers(line)[10:], [
+            7, 1, 2, 0, 0, 1, 0, 1,
+            24, 0, 0, 0, 1, 0, 0, 0, 1, 0, 0, 0, 1, 0, 0, 0, 1, 1, 1, 0, 1, 0, 0, 0, 1,
+            2, 1, 3, 1, 0, 1, 0, 1, 0,
+            24] + [1, 1, 0, 0] * 6)
+
+    def test_what_stands_ahead_of_a_row(self):
+        # t and n stand ahead of the row and of how many numbers it has.
+        self.assertEqual(answers([15, 7, 3, 4, 2, 3]), [1, 4])
+        self.assertEqual(answers([18, 12, 4, 3, 1, 3, 0]), [2, 4, 1])
 
     def test_refusal_is_its_number_alone(self):
         self.assertEqual(answers(ORDER), [1, -1])
@@ -46,6 +71,15 @@ class OneList(unittest.TestCase):
     def test_greatest_work_in_a_line(self):
         busy = begin(2) + job([50, -1] * 5 + [50], shares=7, rounds=10) * 16 + ticks(200) * 15
         self.assertEqual(answers(busy * 9)[-1], answers(busy)[-1])
+
+    def test_greatest_work_in_calls_that_run_long(self):
+        busy = begin(2, 3, 2, 10) + job([50] * 12, shares=7, deadline=9, rounds=10) * 16
+        told = answers(busy + compare(400) * 20)
+        self.assertEqual(told[-25:], answers(busy + compare(400))[-25:])
+        row = [12, 1, 12, 11, 1, 11, 10, 1, 10, 9, 1, 9, 8, 1, 8, 7, 1, 7]
+        self.assertEqual(answers(again(row) * 20), [2, 1, 27720] * 20)
+        self.assertEqual(len(answers(ranked([12, 12, 12, 30] * 6, 300) * 20)), 13 * 20)
+        self.assertEqual(len(answers(once([60, 20, 200] * 12) * 300)), 15 * 300)
 
 
 class LeftAlone(unittest.TestCase):

@@ -70,6 +70,15 @@ class Language(unittest.TestCase):
                     self.assertEqual(node.level, 0, name)
                     self.assertTrue(node.module.startswith("jobsched."), (name, node.module))
 
+    def test_no_two_files_draw_from_one_another(self):
+        draws = {name.removesuffix(".py"): {node.module.split(".")[1] for node in ast.walk(tree)
+                                            if isinstance(node, ast.ImportFrom)} for name, tree in self.trees()}
+        while draws:
+            ends = [name for name, drawn in draws.items() if not drawn & set(draws)]
+            self.assertNotEqual(ends, [], draws)
+            for name in ends:
+                draws.pop(name)
+
     def test_statements_and_expressions(self):
         for name, tree in self.trees():
             for node in ast.walk(tree):
